@@ -1,0 +1,1 @@
+"""Polynomials put into one another, and done again and again."""

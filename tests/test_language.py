@@ -1,0 +1,142 @@
+"""Some rules of LANGUAGE.md that a short look at the files can check, and the names that the interface lists."""
+
+import ast
+import builtins
+import importlib
+import inspect
+import re
+import unittest
+from pathlib import Path
+
+FOLDER = Path(__file__).resolve().parent.parent / "stepswithin"
+LET_BUILTINS = set(
+    "len range enumerate zip min max sum abs sorted reversed int str bool list tuple dict set isinstance any all "
+    "divmod ValueError".split()
+)
+BARRED_WORDS = re.compile(
+    r"\b(type|typing|enum|Enum|Generic|Protocol|ABC|namedtuple|register|mro|elements|open|input|law|eval|exec)\b"
+)
+INTERFACE = {
+    "steps": {
+        "need_number": "value", "need_step": "value", "need_row": "value", "degree_of": "step", "head_of": "step",
+        "is_plain": "step", "value_at": "step number", "plained": "step", "straight_back": "step", "in_order": "steps",
+    },
+    "doing": {"row_degree": "row", "whole": "row", "numbers_along": "row start", "again": "step times"},
+    "parting": {
+        "candidate": "step degree", "in_powers": "step base", "first_part": "step degree", "last_part": "step first",
+        "is_first_part": "step first", "first_break": "step degree", "is_break": "step degree value",
+    },
+    "parts": {
+        "first_degrees": "step", "first_parts": "step", "meeting": "step one other", "joining": "step one other",
+        "covers": "step", "common_first": "one other", "are_apart": "one other",
+    },
+    "fullrows": {
+        "is_unparted": "step", "full_rows": "step", "how_many_rows": "step", "plain_row": "row", "exchanges": "row",
+        "exchanged": "row index", "exchange_way": "one other", "turned_pairs": "one other",
+    },
+    "kinds": {
+        "dickson": "degree number", "middle_of": "step", "dickson_form": "step", "is_power": "step",
+        "exchange_kind": "row", "power_exchange": "row",
+    },
+}
+
+
+def sources():
+    """Return the (name, text, tree) of each file of the package."""
+    files = sorted(FOLDER.glob("*.py"))
+    return [(path.stem, path.read_text(encoding="utf-8"), ast.parse(path.read_text(encoding="utf-8"))) for path in files]
+
+
+def without_comments(text, tree):
+    """Return the text of a file without comments and docstrings."""
+    lines = text.split("\n")
+    for node in ast.walk(tree):
+        if isinstance(node, (ast.Module, ast.FunctionDef, ast.ClassDef)) and ast.get_docstring(node) is not None:
+            for place in range(node.body[0].lineno - 1, node.body[0].end_lineno):
+                lines[place] = ""
+    return "\n".join(line.split("#")[0] for line in lines)
+
+
+def bound_names(function):
+    """Return all names that a function binds."""
+    names = {part.arg for part in ast.walk(function) if isinstance(part, ast.arg)}
+    names |= {part.id for part in ast.walk(function) if isinstance(part, ast.Name) and isinstance(part.ctx, ast.Store)}
+    return names
+
+
+class Files(unittest.TestCase):
+    def test_sizes_and_characters(self):
+        for path in FOLDER.iterdir():
+            if path.name != "__pycache__":
+                self.assertRegex(path.name, r"^[a-z0-9_]+\.py$")
+        for name, text, tree in sources():
+            lines = text.split("\n")
+            self.assertLessEqual(len(lines), 399, name)
+            self.assertLessEqual(max(map(len, lines)), 120, name)
+            self.assertTrue(all(" " <= sign <= "~" or sign == "\n" for sign in text), name)
+            for node in ast.walk(tree):
+                if isinstance(node, ast.FunctionDef):
+                    self.assertLessEqual(node.end_lineno - node.lineno + 1, 40, node.name)
+
+    def test_imports(self):
+        defined = {name: {node.name for node in tree.body if hasattr(node, "name")}
+                   | {node.targets[0].id for node in tree.body if isinstance(node, ast.Assign)}
+                   for name, _, tree in sources()}
+        for name, _, tree in sources():
+            inner = [node for node in ast.walk(tree) if isinstance(node, (ast.Import, ast.ImportFrom))]
+            self.assertEqual(inner, [node for node in tree.body if node in inner])
+            for node in inner:
+                self.assertIsInstance(node, ast.ImportFrom)
+                told = {alias.name for alias in node.names}
+                self.assertTrue(all(alias.asname is None for alias in node.names))
+                if node.module == "math":
+                    self.assertLessEqual(told, {"gcd", "lcm", "isqrt", "comb"})
+                else:
+                    self.assertTrue(node.module.startswith("stepswithin."))
+                    self.assertLessEqual(told, defined[node.module.split(".")[1]])
+
+    def test_names(self):
+        for name, text, tree in sources():
+            imported = {alias.name for node in tree.body if isinstance(node, ast.ImportFrom) for alias in node.names}
+            classes = {node.name for node in tree.body if isinstance(node, ast.ClassDef)}
+            self.assertIsNone(BARRED_WORDS.search(without_comments(text, tree)), name)
+            for node in ast.walk(tree):
+                if isinstance(node, ast.FunctionDef):
+                    names = bound_names(node) | {node.name}
+                    self.assertEqual(names & (imported | classes | set(dir(builtins)) - {"__init__"}), set(), node.name)
+                if isinstance(node, ast.Name) and isinstance(node.ctx, ast.Load) and hasattr(builtins, node.id):
+                    self.assertIn(node.id, LET_BUILTINS)
+
+    def test_values(self):
+        for name, _, tree in sources():
+            for node in ast.walk(tree):
+                self.assertNotIsInstance(node, (ast.Global, ast.AsyncFunctionDef, ast.Set, ast.SetComp, ast.Try))
+                if isinstance(node, ast.Constant):
+                    self.assertNotIsInstance(node.value, float)
+                if isinstance(node, ast.BinOp):
+                    self.assertNotIsInstance(node.op, ast.Div)
+                    if isinstance(node.op, ast.Pow):
+                        self.assertIsInstance(node.right, ast.Constant)
+                if isinstance(node, ast.Raise):
+                    self.assertIsInstance(node.exc, ast.Call)
+
+    def test_used_imports(self):
+        for name, text, tree in sources():
+            for node in tree.body:
+                if isinstance(node, ast.ImportFrom):
+                    for alias in node.names:
+                        self.assertGreater(len(re.findall(rf"\b{alias.name}\b", text)), 1, (name, alias.name))
+
+
+class Interface(unittest.TestCase):
+    def test_names_and_parameters(self):
+        for name, functions in INTERFACE.items():
+            module = importlib.import_module(f"stepswithin.{name}")
+            for function, parameters in functions.items():
+                told = getattr(module, function)
+                self.assertEqual(told.__module__, module.__name__)
+                self.assertEqual(list(inspect.signature(told).parameters), parameters.split())
+
+
+if __name__ == "__main__":
+    unittest.main()
