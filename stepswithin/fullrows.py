@@ -60,17 +60,13 @@ def swapped(first, last):
     return part, behind_or_break(both, part)[0]
 
 
-def need_unparted(row):
-    """Refuse a row of steps for the first of them that is not unparted, then for the degree of its whole."""
+def need_full_row(row):
+    """Refuse what is no row, then its first step that is not unparted, then too great a degree of its whole."""
+    need_row(row)
     for place, step in enumerate(row):
         if not has_no_parts(step):
             raise BadRow((place,))
     refuse_great(row)
-
-
-def need_full_row(row):
-    """Refuse what is no full row of a whole of a degree that is let."""
-    need_unparted(need_row(row))
 
 
 def places_in(one, other):
