@@ -1,26 +1,20 @@
-"""A look at a step modulo a prime: it shows of most steps at once that they have no first part of a degree.
+"""A look at steps modulo a prime: it shows of most of them at once that they have no first part, or unlike wholes.
 
 The numbers of a candidate may have thousands of figures; modulo the prime none has more than nineteen. Where the head
 of a step told by integers is no multiple of the prime, the candidate and its remainders modulo the prime are those of
-the step modulo the prime: all that is divided by is the head and numbers less than the prime.
+the step modulo the prime: all that is divided by is the head and numbers less than the prime. Likewise the whole of a
+row modulo the prime is that of its steps modulo the prime, where no number of them is over a multiple of the prime.
 """
 
-from stepswithin.polynomials import opened
+from stepswithin.polynomials import multiplied, opened
+from stepswithin.roots import power_modulo
 
 PRIME = 2 ** 61 - 1
 
 
 def inverse(number):
     """Return the inverse of an integer, no multiple of the prime: its power with the exponent PRIME - 2."""
-    found = 1
-    factor = number % PRIME
-    exponent = PRIME - 2
-    while exponent > 0:
-        if exponent & 1:
-            found = found * factor % PRIME
-        factor = factor * factor % PRIME
-        exponent >>= 1
-    return found
+    return power_modulo(number, PRIME - 2, PRIME)
 
 
 def root_series(series, exponent, size):
@@ -53,3 +47,41 @@ def surely_none(step, degree):
     series = [top * scale % PRIME for top in reversed(tops)]
     base = root_series(series, (len(step) - 1) // degree, degree)
     return any([rest != 0 for rest in first_remainder(series, base)])
+
+
+def rests_of(step):
+    """Return the list of the numbers of a step modulo the prime, or None where the prime divides what is below."""
+    tops, bottom = opened(step)
+    if bottom % PRIME == 0:
+        return None
+    scale = inverse(bottom)
+    return [top * scale % PRIME for top in tops]
+
+
+def rests_of_row(row):
+    """Return the list of the rests of the steps of a row, or None where one of them has none."""
+    found = [rests_of(step) for step in row]
+    return None if None in found else found
+
+
+def led_along(rests, start):
+    """Return what a start is led to modulo the prime by the rests of a row of steps."""
+    number = start
+    for tops in rests:
+        found = 0
+        for top in reversed(tops):
+            found = (found * number + top) % PRIME
+        number = found
+    return number
+
+
+def whole_modulo(rests):
+    """Return the numbers modulo the prime of the whole of a row that is told by the rests of its steps."""
+    found = rests[0]
+    for outer in rests[1:]:
+        inner = found
+        found = [outer[-1]]
+        for top in reversed(outer[:-1]):
+            found = [number % PRIME for number in multiplied(inner, found)]
+            found[0] += top
+    return [number % PRIME for number in found]

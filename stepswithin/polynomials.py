@@ -27,6 +27,11 @@ def product_of(one, other):
     return fraction(one[0] * other[0], one[1] * other[1])
 
 
+def sum_of(one, other):
+    """Return the sum of two numbers."""
+    return fraction(one[0] * other[1] + other[0] * one[1], one[1] * other[1])
+
+
 def difference_of(one, other):
     """Return one number less the other one."""
     return fraction(one[0] * other[1] - other[0] * one[1], one[1] * other[1])

@@ -219,3 +219,28 @@ def back(straight):
     """Return the straight step that undoes a straight one."""
     least, head = fractions_of(straight)
     return step(-least / head, 1 / head)
+
+
+def whole_root(value, degree):
+    """Return the integer from 0 on whose power is an integer from 0 on, or None."""
+    low, high = 0, 1
+    while high ** degree <= value:
+        high *= 2
+    while high - low > 1:
+        half = (low + high) // 2
+        low, high = (half, high) if half ** degree <= value else (low, half)
+    return low if low ** degree == value else None
+
+
+def rational_roots(number, degree):
+    """Return the ascending list of all fractions whose power is a fraction."""
+    top, bottom = whole_root(abs(number.numerator), degree), whole_root(number.denominator, degree)
+    if top is None or bottom is None:
+        return []
+    return sorted(one for one in {Fraction(top, bottom), Fraction(-top, bottom)} if one ** degree == number)
+
+
+def middle(told):
+    """Return the middle of a step as a fraction."""
+    numbers = fractions_of(told)
+    return numbers[-2] / (numbers[-1] * (len(told) - 1))
