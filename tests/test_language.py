@@ -38,6 +38,36 @@ INTERFACE = {
         "dickson": "degree number", "middle_of": "step", "dickson_form": "step", "is_power": "step",
         "exchange_kind": "row", "power_exchange": "row",
     },
+    "straight": {
+        "turns": "step", "straight_pairs": "one other", "are_straight": "one other", "partners": "one other", "own": "step",
+    },
+    "commuting": {
+        "commutes": "one other", "commuting_heads": "step degree", "commuting_try": "step degree head",
+        "commuting_break": "step degree head", "is_commuting_break": "step degree head value",
+        "commuting_with": "step degree", "commuting_degrees": "step most",
+    },
+    "again": {
+        "root_degree": "step times", "root_heads": "step times", "root_try": "step times head",
+        "root_break": "step times head", "is_root_break": "step times head value", "roots_of": "step times",
+        "most_times": "step", "common_again": "one other", "common_break": "one other",
+        "is_common_break": "one other value",
+    },
+    "commonwhole": {
+        "common_whole": "one other", "are_joined": "one other", "bar_places": "one other", "is_bar": "one other value",
+    },
+    "quotients": {
+        "firsts": "step last", "middles": "step first last", "both_firsts": "one last other far",
+        "number_roots": "number degree", "first_bar": "step last", "is_first_bar": "step last value",
+    },
+    "roundabout": {
+        "turned_round": "step degree", "turned_rounds": "step", "round_class": "step", "round_way": "one other",
+        "are_round": "one other",
+    },
+    "wordsof": {
+        "word_whole": "steps word", "word_numbers": "steps word start", "words_alike": "steps one other",
+        "parting_number": "one other", "struck_out": "one other", "relations": "steps most", "is_free_to": "steps most",
+        "word_classes": "steps most", "word_of": "steps step most",
+    },
 }
 
 
