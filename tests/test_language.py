@@ -68,6 +68,18 @@ INTERFACE = {
         "parting_number": "one other", "struck_out": "one other", "relations": "steps most", "is_free_to": "steps most",
         "word_classes": "steps most", "word_of": "steps step most",
     },
+    "starts": {
+        "bounds_of": "step", "comes_round": "step start", "leaves": "step start", "starts": "step", "rings": "step",
+        "ring_lengths": "step", "common_starts": "one other",
+    },
+    "twostarts": {
+        "comes_together": "step one other", "apart_moments": "step one other", "is_apart_at": "step one other value",
+    },
+    "choices": {
+        "choice_bound": "steps", "reach": "steps start goal", "closed_list": "steps start goal",
+        "is_closed": "steps start goal value", "count_words": "steps start goal length", "stays": "steps start",
+        "is_staying": "steps start value",
+    },
 }
 
 
