@@ -59,8 +59,9 @@ def explored(steps, start, most):
     met = {start: True}
     at = 0
     while at < len(order):
-        followers = followers_of(rows, order[at], most)
-        graph[order[at]] = followers
+        number = order[at]
+        followers = followers_of(rows, number, most)
+        graph[number] = followers
         for follower in followers:
             if follower is not None and follower not in met:
                 met[follower] = True
@@ -115,7 +116,8 @@ def lasting(graph):
     gone = [number for number, many in left.items() if many == 0]
     at = 0
     while at < len(gone):
-        for source in sources[gone[at]]:
+        number = gone[at]
+        for source in sources[number]:
             left[source] -= 1
             if left[source] == 0:
                 gone.append(source)

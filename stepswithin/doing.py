@@ -2,7 +2,7 @@
 
 from stepswithin.errors import BadParameter, TooGreat
 from stepswithin.polynomials import LETTER, value_of, whole_of
-from stepswithin.steps import is_integer, need_number, need_row, need_step
+from stepswithin.steps import GREATEST, is_integer, need_number, need_row, need_step
 
 MOST_WHOLE = 256
 MOST_TIMES = 60
@@ -20,6 +20,21 @@ def refuse_great(row):
     """Refuse a checked row whose whole would have too great a degree."""
     if product_of_degrees(row) > MOST_WHOLE:
         raise TooGreat(MOST_WHOLE)
+
+
+def refuse_great_numbers(numbers):
+    """Refuse numbers of which one is greater than those of parameters may be."""
+    if any([abs(top) > GREATEST or bottom > GREATEST for top, bottom in numbers]):
+        raise TooGreat(GREATEST)
+
+
+def led_on(step, start, times):
+    """Return what a step leads a number to, both checked, in a number of times; refuse what is too great behind one."""
+    number = start
+    for _ in range(times):
+        number = value_of(step, number)
+        refuse_great_numbers((number,))
+    return number
 
 
 def row_degree(row):

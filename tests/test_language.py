@@ -11,7 +11,7 @@ from pathlib import Path
 FOLDER = Path(__file__).resolve().parent.parent / "stepswithin"
 LET_BUILTINS = set(
     "len range enumerate zip min max sum abs sorted reversed int str bool list tuple dict set isinstance any all "
-    "divmod ValueError".split()
+    "divmod iter ValueError".split()
 )
 BARRED_WORDS = re.compile(
     r"\b(type|typing|enum|Enum|Generic|Protocol|ABC|namedtuple|register|mro|elements|open|input|law|eval|exec)\b"
@@ -80,7 +80,27 @@ INTERFACE = {
         "is_closed": "steps start goal value", "count_words": "steps start goal length", "stays": "steps start",
         "is_staying": "steps start value",
     },
+    "rests": {
+        "step_rests": "step modulo", "rest_at": "step modulo rest", "same_rests": "one other modulo",
+        "parting_rest": "one other modulo", "is_onto": "step modulo", "rest_ring": "step modulo rest",
+        "rest_after": "step modulo rest times", "ring_rests": "step modulo", "rest_rings": "step modulo",
+    },
+    "texts": {
+        "number_text": "number", "step_text": "step", "row_text": "row", "read_number": "text", "read_step": "text",
+        "read_row": "text",
+    },
 }
+CLASSES = {
+    ("house", "House"): {
+        "__init__": "", "names": "", "thing": "name", "do": "deed", "follow": "deeds", "trial": "deeds", "undo": "", "log": "",
+        "copy": "", "__len__": "", "__iter__": "", "__eq__": "other",
+    },
+    ("page", "Page"): {
+        "__init__": "text", "all_true": "", "named": "name", "__len__": "", "__iter__": "", "__eq__": "other", "__str__": "",
+    },
+}
+# names that methods and attributes of the package may not have: those of values of Python's own
+BUILTIN_NAMES = {name for kind in (str, int, list, dict, set, tuple, bytes) for name in dir(kind)}
 
 
 def sources():
@@ -152,7 +172,10 @@ class Files(unittest.TestCase):
     def test_values(self):
         for name, _, tree in sources():
             for node in ast.walk(tree):
-                self.assertNotIsInstance(node, (ast.Global, ast.AsyncFunctionDef, ast.Set, ast.SetComp, ast.Try))
+                self.assertNotIsInstance(node, (ast.Global, ast.AsyncFunctionDef, ast.Set, ast.SetComp, ast.GeneratorExp))
+                if isinstance(node, ast.Try):
+                    self.assertEqual([handler.type.id for handler in node.handlers], ["StepError"])
+                    self.assertEqual(node.finalbody, [])
                 if isinstance(node, ast.Constant):
                     self.assertNotIsInstance(node.value, float)
                 if isinstance(node, ast.BinOp):
@@ -161,6 +184,17 @@ class Files(unittest.TestCase):
                         self.assertIsInstance(node.right, ast.Constant)
                 if isinstance(node, ast.Raise):
                     self.assertIsInstance(node.exc, ast.Call)
+
+    def test_classes(self):
+        for name, _, tree in sources():
+            for node in [node for node in tree.body if isinstance(node, ast.ClassDef)]:
+                self.assertEqual(node.decorator_list, [])
+                methods = {part.name for part in node.body if isinstance(part, ast.FunctionDef)}
+                assigned = {part.attr for part in ast.walk(node)
+                            if isinstance(part, ast.Attribute) and isinstance(part.ctx, ast.Store)}
+                self.assertEqual(methods & assigned, set(), (name, node.name))
+                plain = {method for method in methods if not method.startswith("__")}
+                self.assertLessEqual((plain | assigned) & BUILTIN_NAMES, {"copy"}, (name, node.name))
 
     def test_used_imports(self):
         for name, text, tree in sources():
@@ -178,6 +212,14 @@ class Interface(unittest.TestCase):
                 told = getattr(module, function)
                 self.assertEqual(told.__module__, module.__name__)
                 self.assertEqual(list(inspect.signature(told).parameters), parameters.split())
+
+    def test_classes(self):
+        for (name, kind), methods in CLASSES.items():
+            told = getattr(importlib.import_module(f"stepswithin.{name}"), kind)
+            self.assertEqual(told.__module__, f"stepswithin.{name}")
+            for method, parameters in methods.items():
+                self.assertIn(method, vars(told))
+                self.assertEqual(list(inspect.signature(vars(told)[method]).parameters), ["self", *parameters.split()])
 
 
 if __name__ == "__main__":

@@ -4,7 +4,7 @@ import unittest
 from fractions import Fraction
 from itertools import product
 
-from oracle import BAD_NUMBERS, BAD_STEPS, GREAT, X, new_random, pair, power, refused, same, step
+from oracle import BAD_NUMBERS, BAD_STEPS, GREAT, X, pair, power, refused, same, step
 from stepswithin.starts import bounds_of, comes_round
 from stepswithin.twostarts import apart_moments, comes_together, is_apart_at
 
