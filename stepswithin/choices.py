@@ -146,7 +146,7 @@ def staying_words(graph, start):
 def led_within(rows, number, word, most):
     """Return what a word leads an integer to, or None if it is led beyond a size on the way."""
     for index in word:
-        if number is None or abs(number) > most:
+        if abs(number) > most:
             return None
         number = integer_at(rows[index], number)
     return number

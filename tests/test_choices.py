@@ -302,6 +302,9 @@ class Staying(unittest.TestCase):
         self.assertIs(is_staying(steps, (0, 1), ((0,) * 4000, (0,))), False)
         self.assertIs(is_staying(steps, (0, 1), ((), (0,) * 4001)), False)
         self.assertIs(is_staying(steps, (3, 1), ((0,) * 2000, (1,) * 2000)), False)
+        # what leads beyond the bound is not led on
+        self.assertIs(is_staying(steps, (1, 1), ((), (0, *[1] * 3999))), False)
+        self.assertIs(is_staying(steps, (1, 1), ((0, *[1] * 3998), (1,))), False)
 
     def test_values_of_any_kind(self):
         for value in (None, 1, "ab", (), ((),), ((), (), ()), [(), (1,)], ((), [1]), ([], (1,)), ((), ()), ((), (2,)),
