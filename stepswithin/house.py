@@ -10,7 +10,7 @@ class House:
     def __init__(self):
         self.things = {}
         self.deeds = []
-        # for each doing: the things ahead of it, and how many deeds were done ahead of it
+        # for each deed the things ahead of it: a deed that was followed is taken back alone, too
         self.past = []
 
     def names(self):
@@ -30,19 +30,20 @@ class House:
         self.take_over((deed,))
 
     def follow(self, deeds):
-        """Do all deeds of a tuple in turn, or none; they are taken back as one."""
+        """Do all deeds of a tuple in turn, or none."""
         need_deeds(deeds)
         self.take_over(deeds)
 
     def take_over(self, deeds):
         """Do checked deeds in turn and keep them, or none if one is refused."""
         things = self.things
+        past = []
         for deed in deeds:
+            past.append(things)
             things = done(things, deed)
-        if deeds != ():
-            self.past.append((self.things, len(self.deeds)))
-            self.deeds.extend(deeds)
-            self.things = things
+        self.past.extend(past)
+        self.deeds.extend(deeds)
+        self.things = things
 
     def trial(self, deeds):
         """Return (how many deeds would be done ahead of the first refused one, the names in use behind them)."""
@@ -51,11 +52,11 @@ class House:
         return many, tuple(sorted(things))
 
     def undo(self):
-        """Take the last deed back; deeds that were followed go together."""
+        """Take the last deed back."""
         if self.past == []:
             raise NothingBack()
-        self.things, many = self.past.pop()
-        self.deeds = self.deeds[:many]
+        self.things = self.past.pop()
+        self.deeds = self.deeds[:-1]
 
     def log(self):
         """Return the tuple of the deeds done and not taken back."""

@@ -274,16 +274,87 @@ class Back(unittest.TestCase):
         self.assertEqual(refused(told.undo), ("NothingBack",))
         self.assertEqual(state(told), state(House()))
 
-    def test_a_follow_is_taken_back_as_one(self):
+    def goes_back_deed_by_deed(self, told, deeds):
+        """Check that a house in which these deeds were done goes back through the houses of their first ones."""
+        for many in range(len(deeds), 0, -1):
+            self.assertEqual(state(told), state(house(*deeds[:many])))
+            self.assertIsNone(told.undo())
+        self.assertEqual(state(told), state(House()))
+        self.assertEqual(refused(told.undo), ("NothingBack",))
+        self.assertEqual(state(told), state(House()))
+
+    def test_followed_deeds_are_taken_back_one_by_one(self):
+        deeds = (put(0, (1, 1)), put(1, (2, 1)))
+        told = House()
+        told.follow(deeds)
+        self.assertIsNone(told.undo())
+        self.assertEqual(state(told), ((0,), (("number", (1, 1)),), deeds[:1], 1, [deeds[0]]))
+        self.goes_back_deed_by_deed(told, deeds[:1])
+
+    def test_every_kind_of_followed_deed_is_taken_back(self):
+        deeds = (put(1, H), put(2, (1, 1)), put(3, step(1, 2)), ("lead", 1, 2, 2), ("behind", 1, 3), ("again", 3, 2),
+                 ("behind", 1, 1), ("drop", 1), put(1, (7, 2)), ("drop", 3))
+        told = House()
+        told.follow(deeds)
+        self.goes_back_deed_by_deed(told, deeds)
+
+    def test_sixty_followed_deeds_are_taken_back(self):
+        deeds = (put(1, step(1, 1)), put(2, (0, 1)), *(("lead", 1, 2, times) for times in range(1, 59)))
+        told = House()
+        told.follow(deeds)
+        self.goes_back_deed_by_deed(told, deeds)
+
+    def test_do_and_follow_mixed(self):
+        deeds = (put(1, H), put(2, (1, 1)), ("lead", 1, 2, 2), ("again", 1, 2), ("drop", 2), put(2, X), ("behind", 1, 2))
+        for cut in range(len(deeds) + 1):
+            for end in range(cut, len(deeds) + 1):
+                told = house(*deeds[:cut])
+                told.follow(deeds[cut:end])
+                for deed in deeds[end:]:
+                    told.do(deed)
+                self.goes_back_deed_by_deed(told, deeds)
+                told = House()
+                for part in (deeds[:cut], deeds[cut:end], deeds[end:]):
+                    told.follow(part)
+                self.goes_back_deed_by_deed(told, deeds)
+
+    def test_deeds_behind_a_follow_that_was_taken_back_in_part(self):
         told = house(put(1, H))
-        ahead = state(told)
-        told.follow((put(2, (1, 1)), ("lead", 1, 2, 2), ("drop", 1)))
-        self.assertEqual(len(told), 4)
+        told.follow((put(2, (1, 1)), ("lead", 1, 2, 1), ("drop", 1)))
+        told.undo()
+        told.undo()
+        told.follow((("again", 1, 2), ("lead", 1, 2, 1)))
+        told.undo()
+        told.do(put(3, X))
+        self.goes_back_deed_by_deed(told, (put(1, H), put(2, (1, 1)), ("again", 1, 2), put(3, X)))
+
+    def test_an_empty_follow_is_no_deed(self):
+        told = house(put(1, H), put(2, X))
         told.follow(())
         told.undo()
-        self.assertEqual(state(told), ahead)
-        told.undo()
-        self.assertEqual(refused(told.undo), ("NothingBack",))
+        told.follow(())
+        self.goes_back_deed_by_deed(told, (put(1, H),))
+
+    def test_a_refused_follow_leaves_what_can_be_taken_back(self):
+        told = House()
+        told.follow((put(1, H), put(2, (1, 1))))
+        self.assertEqual(refused(told.follow, (("lead", 1, 2, 1), ("drop", 1), ("drop", 3))), ("BadParameter", 3))
+        self.goes_back_deed_by_deed(told, (put(1, H), put(2, (1, 1))))
+
+    def test_copies_go_back_by_themselves(self):
+        deeds = (put(1, H), put(2, (1, 1)), ("lead", 1, 2, 1), ("again", 1, 2))
+        for undone in range(len(deeds) + 1):
+            told = house(deeds[0])
+            told.follow(deeds[1:])
+            for _ in range(undone):
+                told.undo()
+            left = deeds[:len(deeds) - undone]
+            other = told.copy()
+            self.goes_back_deed_by_deed(other, left)
+            self.assertEqual(state(told), state(house(*left)))
+            other = told.copy()
+            self.goes_back_deed_by_deed(told, left)
+            self.assertEqual(state(other), state(house(*left)))
 
     def test_what_is_refused_is_not_taken_back(self):
         told = house(put(1, H), put(2, X))
